@@ -1,0 +1,1 @@
+"""Paidspan: books of paid spans."""
