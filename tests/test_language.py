@@ -35,6 +35,10 @@ UNUSED = """register mro elements open input version_info with_traceback add_not
 copyright credits delattr dir eval exec exit gc getattr globals hasattr help id importlib license locals methodcaller os
 quit setattr super sys vars format format_map""".split()
 
+# L26: methods and values of an object that may be called like one of Python's own values' methods.
+FREE_METHODS = METHODS + ["add", "discard"]
+FREE_VALUES = "count index title find get join lower upper split strip copy add".split()
+
 OWN_ERRORS_TAKEN = "KeyError ZeroDivisionError StopIteration ValueError LookupError IndexError".split()
 
 
@@ -194,6 +198,29 @@ class Names(unittest.TestCase):
             for node in nodes_of(path, ast.Call):
                 if isinstance(node.func, ast.Attribute):
                     self.assertIn(node.func.attr, METHODS + own, (path, node.lineno))
+
+
+    def test_locals_are_not_called_like_a_class_or_an_import(self):
+        for path in files():
+            rows = tree_of(path).body
+            taken = [row.name for row in rows if isinstance(row, ast.ClassDef)]
+            taken += [name.asname or name.name for row in rows if isinstance(row, ast.ImportFrom) for name in row.names]
+            given = [node.id for node in nodes_of(path, ast.Name) if isinstance(node.ctx, ast.Store)]
+            given += [node.arg for node in nodes_of(path, ast.arg)]
+            self.assertEqual([name for name in given if name in taken], [], path)
+
+    def test_methods_and_values_of_objects(self):
+        methods, values = [], []
+        for path in files():
+            for node in nodes_of(path, ast.ClassDef):
+                names = [row.name for row in node.body if isinstance(row, ast.FunctionDef)]
+                self.assertEqual(len(names), len(set(names)), (path, node.name))
+                methods += [name for name in names if name not in DUNDERS]
+            values += [node.attr for node in nodes_of(path, ast.Attribute) if isinstance(node.ctx, ast.Store)]
+        own = [name for kind in (str, int, list, tuple, dict, set, bytes, ValueError) for name in dir(kind)]
+        self.assertEqual([name for name in methods if name in values], [])
+        self.assertEqual([name for name in methods if name in own and name not in FREE_METHODS], [])
+        self.assertEqual([name for name in values if name in own and name not in FREE_VALUES], [])
 
 
 class Imports(unittest.TestCase):
