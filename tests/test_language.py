@@ -39,6 +39,15 @@ quit setattr super sys vars format format_map""".split()
 FREE_METHODS = METHODS + ["add", "discard"]
 FREE_VALUES = "count index title find get join lower upper split strip copy add".split()
 
+# L22: the keywords with which Python's own are called.
+KEYWORDS = {"sorted": ["key", "reverse"], "min": ["key", "default"], "max": ["key", "default"], "sum": ["start"],
+            "enumerate": ["start"], "zip": ["strict"]}
+
+# L23: what is walked on the spot, and what walks it.
+WALKED = "zip enumerate reversed range".split()
+WALKED_METHODS = "items keys values".split()
+WALKERS = "list tuple dict sorted sum any all enumerate zip min max".split()
+
 OWN_ERRORS_TAKEN = "KeyError ZeroDivisionError StopIteration ValueError LookupError IndexError".split()
 
 
@@ -172,6 +181,61 @@ class Forms(unittest.TestCase):
                         self.assertIsInstance(right, ast.Constant, (path, node.lineno))
 
 
+def called(node):
+    """The name by which a call calls, where it is a plain one."""
+    return node.func.id if isinstance(node, ast.Call) and isinstance(node.func, ast.Name) else None
+
+
+class Calls(unittest.TestCase):
+    def test_keywords_of_python_own_names(self):
+        for path in files():
+            for node in nodes_of(path, ast.Call):
+                if isinstance(node.func, ast.Attribute) or called(node) in OWN_NAMES:
+                    for word in node.keywords:
+                        self.assertIn(word.arg, KEYWORDS.get(called(node), []), (path, node.lineno))
+
+    def test_python_own_names_are_called(self):
+        for path in files():
+            tree = tree_of(path)
+            calling = [node.func for node in ast.walk(tree) if isinstance(node, ast.Call)]
+            named = [name for node in ast.walk(tree) for name in self.places_of_kinds(node)]
+            for node in ast.walk(tree):
+                if isinstance(node, ast.Name) and node.id in OWN_NAMES:
+                    self.assertIn(node, calling + named, (path, node.lineno))
+
+    def places_of_kinds(self, node):
+        """Where kinds and error classes may stand without a call."""
+        if called(node) == "isinstance":
+            return list(ast.walk(node.args[1]))
+        if isinstance(node, ast.ClassDef):
+            return node.bases
+        if isinstance(node, ast.ExceptHandler):
+            return list(ast.walk(node.type))
+        if isinstance(node, ast.keyword) and node.arg == "key":
+            return [node.value]
+        return []
+
+    def test_walked_on_the_spot(self):
+        for path in files():
+            tree = tree_of(path)
+            walked = [node.iter for node in ast.walk(tree) if isinstance(node, (ast.For, ast.comprehension))]
+            walked += [node.args[0] for node in ast.walk(tree) if called(node) in WALKERS and node.args]
+            walked += [one for node in ast.walk(tree) if called(node) == "zip" for one in node.args]
+            for node in ast.walk(tree):
+                by_method = isinstance(node, ast.Call) and getattr(node.func, "attr", None) in WALKED_METHODS
+                if called(node) in WALKED or by_method:
+                    self.assertIn(node, walked, (path, node.lineno))
+
+    def test_sets_stand_straight_within_sorted_or_len(self):
+        for path in files():
+            tree = tree_of(path)
+            within = [node.args[0] for node in ast.walk(tree) if called(node) in ("sorted", "len") and not node.keywords]
+            for node in ast.walk(tree):
+                self.assertNotIsInstance(node, ast.Set, (path, getattr(node, "lineno", 0)))
+                if called(node) in ("set", "frozenset"):
+                    self.assertIn(node, within, (path, node.lineno))
+
+
 class Names(unittest.TestCase):
     def test_plain_names(self):
         for path in files():
@@ -198,7 +262,6 @@ class Names(unittest.TestCase):
             for node in nodes_of(path, ast.Call):
                 if isinstance(node.func, ast.Attribute):
                     self.assertIn(node.func.attr, METHODS + own, (path, node.lineno))
-
 
     def test_locals_are_not_called_like_a_class_or_an_import(self):
         for path in files():
